@@ -1,0 +1,1 @@
+"""Typedahead: a helper for texts that are being written."""
