@@ -1,0 +1,98 @@
+"""A house as it is read: its files' rows, what these make and take, what names stand for."""
+
+from typedahead.rows import Row
+from typedahead.texts import rows_of
+
+
+def made_in(rows):
+    """For each NAME of which a file's rows make a piece the number of its row, in order."""
+    made = {}
+    for number, row in enumerate(rows):
+        if row.word in ("let", "def") and row.name is not None and row.name not in made:
+            made[row.name] = number
+    return made
+
+
+class Book:
+    """A house that is read.
+
+    files are its NAMEs, rows, made and taken tell by them of each file: its rows as read, the row
+    of each NAME that it makes a piece of, the other files that it takes, each once.
+    """
+
+    def __init__(self, house):
+        self.files = [file for file, _ in house]
+        self.rows = {file: [Row(row) for row in rows_of(text)] for file, text in house}
+        self.made = {file: made_in(self.rows[file]) for file in self.files}
+        self.taken = {file: self.taken_by(file) for file in self.files}
+
+    def taken_by(self, file):
+        """The list of the other files that the file takes, in their order in the house."""
+        names = [row.name for row in self.rows[file] if row.word == "take"]
+        return [other for other in self.files if other != file and other in names]
+
+    def row_at(self, file, number):
+        """The row of that number, None where there is none."""
+        # A number below 0 is none, while an index below 0 counts from the end.
+        if file not in self.rows or not 0 <= number < len(self.rows[file]):
+            return None
+        return self.rows[file][number]
+
+    def pieces(self):
+        """The list of (file, NAME, row) of all pieces, in order."""
+        return [(file, name, number) for file in self.files for name, number in self.made[file].items()]
+
+    def maker(self, file, name):
+        """The row that makes that piece."""
+        return self.rows[file][self.made[file][name]]
+
+    def stands_for(self, file, number, name):
+        """The target of the NAME in that row's part; None where it stands for nothing."""
+        if self.rows[file][number].param_at(name) is not None:
+            return ("param", file, number, name)
+        if name in self.made[file]:
+            return ("piece", file, name)
+        makers = [other for other in self.taken[file] if name in self.made[other]]
+        return ("piece", makers[0], name) if len(makers) == 1 else None
+
+    def meant(self, file, number, part):
+        """The target of a row's name part that is a param or a let piece, or of a call that is
+        a def piece; None of others."""
+        told = self.stands_for(file, number, self.rows[file][number].text(part[1]))
+        if told is None:
+            return None
+        word = "param" if told[0] == "param" else self.maker(told[1], told[2]).word
+        return told if (word == "def") == (part[0] == "call") else None
+
+    def own_target(self, file, number):
+        """The target of the NAME that a row takes or makes."""
+        row = self.rows[file][number]
+        if row.word == "take":
+            return ("file", row.name) if row.name in self.taken[file] else None
+        return ("piece", file, row.name) if self.made[file][row.name] == number else None
+
+    def known_targets(self, file, number):
+        """The targets of a row's name tokens, as far as they were read, by these tokens' numbers."""
+        row = self.rows[file][number]
+        known = {at: self.stands_for(file, number, row.text(at)) for at in row.named()}
+        if row.name is not None:
+            known[row.tree[1]] = self.own_target(file, number)
+        for at, (name, _) in enumerate(row.params):
+            # A param of a NAME that was told ahead of it stands for nothing.
+            if name is not None and row.param_at(name) == at:
+                known[row.tree[2][at][0]] = ("param", file, number, name)
+        return known
+
+    def row_targets(self, file, number):
+        """The list of pairs (place, target) of a row's name tokens, in order."""
+        known = self.known_targets(file, number)
+        found = self.rows[file][number].tokens
+        return [((file, number, token[2]), known.get(at)) for at, token in enumerate(found) if token[0] == "name"]
+
+    def targets(self):
+        """The list of pairs (place, target) of all name tokens, in order."""
+        told = []
+        for file in self.files:
+            for number in range(len(self.rows[file])):
+                told.extend(self.row_targets(file, number))
+        return told
