@@ -1,7 +1,9 @@
 """A house as it is read: its files' rows, what these make and take, what names stand for."""
 
+from typedahead.edits import alike
 from typedahead.rows import Row
 from typedahead.texts import rows_of
+from typedahead.things import is_count
 
 
 def made_in(rows):
@@ -13,28 +15,69 @@ def made_in(rows):
     return made
 
 
-class Book:
-    """A house that is read.
+def kept_rows(rows, older):
+    """For each of the rows the number of the one among the older ones that is kept for it, None where it's read."""
+    ahead = alike(rows, older)
+    behind = alike(rows[ahead:][::-1], older[ahead:][::-1])
+    more = len(rows) - len(older)
+    last = [number - more for number in range(len(rows) - behind, len(rows))]
+    return list(range(ahead)) + [None] * (len(rows) - ahead - behind) + last
 
-    files are its NAMEs, rows, made and taken tell by them of each file: its rows as read, the row
-    of each NAME that it makes a piece of, the other files that it takes, each once.
+
+class Book:
+    """A house that is read; of an older one of the same files the rows are kept that are alike.
+
+    files are its NAMEs; by them rows, made, taken and scope tell of each file: its rows as read,
+    the row of each NAME that it makes a piece of, the other files that it takes, each once, and
+    which file makes each NAME that its parts may name, None where two or more taken ones do.
+    texts has each file's text, kept for each of its rows the number that this had in the older
+    one, None where it was read anew.
     """
 
-    def __init__(self, house):
+    def __init__(self, house, older=None):
         self.files = [file for file, _ in house]
-        self.rows = {file: [Row(row) for row in rows_of(text)] for file, text in house}
+        self.texts = {file: text for file, text in house}
+        self.rows = {}
+        self.kept = {}
+        for file in self.files:
+            self.read(file, older)
         self.made = {file: made_in(self.rows[file]) for file in self.files}
         self.taken = {file: self.taken_by(file) for file in self.files}
+        self.scope = {file: self.scope_of(file) for file in self.files}
+
+    def read(self, file, older):
+        """Reads those rows of the file that aren't kept."""
+        texts = rows_of(self.texts[file])
+        if older is None:
+            kept = [None] * len(texts)
+        else:
+            kept = kept_rows(texts, rows_of(older.texts[file]))
+        self.kept[file] = kept
+        self.rows[file] = [Row(row) if was is None else older.rows[file][was] for row, was in zip(texts, kept)]
+
+    def read_rows(self):
+        """How many rows were read, not kept."""
+        return sum([self.kept[file].count(None) for file in self.files])
 
     def taken_by(self, file):
         """The list of the other files that the file takes, in their order in the house."""
         names = [row.name for row in self.rows[file] if row.word == "take"]
         return [other for other in self.files if other != file and other in names]
 
+    def scope_of(self, file):
+        """For each NAME that the file or one that it takes makes the file whose piece the NAME stands for there."""
+        told = {}
+        for other in self.taken[file]:
+            for name in self.made[other]:
+                told[name] = None if name in told else other
+        for name in self.made[file]:
+            told[name] = file
+        return told
+
     def row_at(self, file, number):
         """The row of that number, None where there is none."""
         # A number below 0 is none, while an index below 0 counts from the end.
-        if file not in self.rows or not 0 <= number < len(self.rows[file]):
+        if file not in self.files or not is_count(number) or number >= len(self.rows[file]):
             return None
         return self.rows[file][number]
 
@@ -46,14 +89,16 @@ class Book:
         """The row that makes that piece."""
         return self.rows[file][self.made[file][name]]
 
+    def makes(self, file, number):
+        """Whether that row makes a piece."""
+        return number in list(self.made[file].values())
+
     def stands_for(self, file, number, name):
         """The target of the NAME in that row's part; None where it stands for nothing."""
         if self.rows[file][number].param_at(name) is not None:
             return ("param", file, number, name)
-        if name in self.made[file]:
-            return ("piece", file, name)
-        makers = [other for other in self.taken[file] if name in self.made[other]]
-        return ("piece", makers[0], name) if len(makers) == 1 else None
+        maker = self.scope[file].get(name)
+        return None if maker is None else ("piece", maker, name)
 
     def meant(self, file, number, part):
         """The target of a row's name part that is a param or a let piece, or of a call that is
@@ -74,7 +119,7 @@ class Book:
     def known_targets(self, file, number):
         """The targets of a row's name tokens, as far as they were read, by these tokens' numbers."""
         row = self.rows[file][number]
-        known = {at: self.stands_for(file, number, row.text(at)) for at in row.named()}
+        known = {at: self.stands_for(file, number, row.text(at)) for at in row.named}
         if row.name is not None:
             known[row.tree[1]] = self.own_target(file, number)
         for at, (name, _) in enumerate(row.params):

@@ -2,6 +2,7 @@
 
 from typedahead.errors import Tangled, TooLong
 from typedahead.texts import is_sign, is_text
+from typedahead.things import is_count
 
 
 def is_edit(text, thing):
@@ -10,11 +11,6 @@ def is_edit(text, thing):
         return False
     at, cut, put = thing
     return is_count(at) and is_count(cut) and at + cut <= len(text) and is_put(put)
-
-
-def is_count(thing):
-    """Whether the thing is a number from 0 on; True and False are none."""
-    return isinstance(thing, int) and not isinstance(thing, bool) and thing >= 0
 
 
 def is_put(thing):
@@ -46,7 +42,7 @@ def between(text, other):
 
 
 def alike(text, other):
-    """How many signs both begin with alike."""
+    """How many signs, or rows of two lists, both begin with alike."""
     for at, (sign, beside) in enumerate(zip(text, other)):
         if sign != beside:
             return at

@@ -3,6 +3,7 @@
 from typedahead.books import Book
 from typedahead.errors import NoName
 from typedahead.texts import is_text
+from typedahead.things import is_count
 from typedahead.words import is_name
 
 MOST_FILES = 6
@@ -27,7 +28,11 @@ def target(house, place):
 
 def uses(house, place):
     """The list of the places of all name tokens of the same target; refused with NoName."""
-    book = Book(house)
+    return uses_in(Book(house), place)
+
+
+def uses_in(book, place):
+    """As uses, of a house that is read."""
     same = target_in(book, place)
     if same is None:
         raise NoName(place)
@@ -41,9 +46,14 @@ def pieces(house):
 
 def target_in(book, place):
     """As target, of a house that is read."""
-    file, number, column = place
-    if book.row_at(file, number) is not None:
-        for (_, _, begin), told in book.row_targets(file, number):
-            if begin == column:
+    if row_of(book, place) is not None:
+        for other, told in book.row_targets(place[0], place[1]):
+            if other == tuple(place):
                 return told
     raise NoName(place)
+
+
+def row_of(book, place):
+    """The row that the place, or the thing that may be one, is in; None where there is none."""
+    is_place = isinstance(place, (list, tuple)) and len(place) == 3 and is_count(place[2])
+    return book.row_at(place[0], place[1]) if is_place else None

@@ -4,7 +4,7 @@
 def straight(book, file, number):
     """The list of pairs (file, NAME) of the pieces that a row's part names."""
     row = book.row_at(file, number)
-    told = [book.stands_for(file, number, row.text(at)) for at in row.named()]
+    told = [book.stands_for(file, number, row.text(at)) for at in row.named]
     return [there[1:] for there in told if there is not None and there[0] == "piece"]
 
 

@@ -1,7 +1,7 @@
 """The values of let pieces, reckoned."""
 
 from typedahead.books import Book
-from typedahead.kinds import LIST_OF
+from typedahead.looks import LIST_OF
 from typedahead.rings import Ties
 from typedahead.rows import own_parts
 
@@ -13,7 +13,11 @@ MOST_PARTS = 200
 def values(house):
     """The list of (file, NAME, value) of all let pieces, in order."""
     book = Book(house)
-    ringed = {pair: True for pair in Ties(book).in_rings()}
+    return values_in(book, {pair: True for pair in Ties(book).in_rings()})
+
+
+def values_in(book, ringed):
+    """As values, of a house that is read, and whose pieces in rings are the keys of ringed."""
     lets = [piece for piece in book.pieces() if book.maker(piece[0], piece[1]).word == "let"]
     return [(file, name, Reckoner(book, ringed).value(file, name)) for file, name, _ in lets]
 
