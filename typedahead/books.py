@@ -30,8 +30,9 @@ class Book:
     files are its NAMEs; by them rows, made, taken and scope tell of each file: its rows as read,
     the row of each NAME that it makes a piece of, the other files that it takes, each once, and
     which file makes each NAME that its parts may name, None where two or more taken ones do.
-    texts has each file's text, kept for each of its rows the number that this had in the older
-    one, None where it was read anew.
+    meanings has of each row what the NAMEs in its part stand for: the number of a param, the pair
+    (file, NAME) of a piece, or None. texts has each file's text, kept for each of its rows the
+    number that this had in the older one, None where it was read anew.
     """
 
     def __init__(self, house, older=None):
@@ -44,6 +45,7 @@ class Book:
         self.made = {file: made_in(self.rows[file]) for file in self.files}
         self.taken = {file: self.taken_by(file) for file in self.files}
         self.scope = {file: self.scope_of(file) for file in self.files}
+        self.meanings = {file: self.meanings_of(file, older) for file in self.files}
 
     def read(self, file, older):
         """Reads those rows of the file that aren't kept."""
@@ -74,6 +76,22 @@ class Book:
             told[name] = file
         return told
 
+    def meanings_of(self, file, older):
+        """For each of the file's rows the list of what the NAMEs in its part stand for."""
+        # A kept row's NAMEs stand for what they did, where all NAMEs do that in its file.
+        alike_scope = older is not None and older.scope[file] == self.scope[file]
+        return [older.meanings[file][was] if alike_scope and was is not None
+                else [self.meaning(file, row, row.text(at)) for at in row.named]
+                for row, was in zip(self.rows[file], self.kept[file])]
+
+    def meaning(self, file, row, name):
+        """What the NAME stands for in the part of that row of the file."""
+        at = row.param_at(name)
+        if at is not None:
+            return at
+        maker = self.scope[file].get(name)
+        return None if maker is None else (maker, name)
+
     def row_at(self, file, number):
         """The row of that number, None where there is none."""
         # A number below 0 is none, while an index below 0 counts from the end.
@@ -95,10 +113,10 @@ class Book:
 
     def stands_for(self, file, number, name):
         """The target of the NAME in that row's part; None where it stands for nothing."""
-        if self.rows[file][number].param_at(name) is not None:
-            return ("param", file, number, name)
-        maker = self.scope[file].get(name)
-        return None if maker is None else ("piece", maker, name)
+        told = self.meaning(file, self.rows[file][number], name)
+        if told is None:
+            return None
+        return ("piece", *told) if isinstance(told, tuple) else ("param", file, number, name)
 
     def meant(self, file, number, part):
         """The target of a row's name part that is a param or a let piece, or of a call that is

@@ -3,42 +3,57 @@
 
 def straight(book, file, number):
     """The list of pairs (file, NAME) of the pieces that a row's part names."""
-    row = book.row_at(file, number)
-    told = [book.stands_for(file, number, row.text(at)) for at in row.named]
-    return [there[1:] for there in told if there is not None and there[0] == "piece"]
-
-
-def reached(bits):
-    """The bits of all that each one reaches, from the bits of what it reaches straight."""
-    told = list(bits)
-    # Behind each middle one all ways are known that lead through it and those ahead of it alone.
-    for middle in range(len(told)):
-        for at in range(len(told)):
-            if told[at] >> middle & 1:
-                told[at] |= told[middle]
-    return told
+    return [meaning for meaning in book.meanings[file][number] if isinstance(meaning, tuple)]
 
 
 class Ties:
-    """A book's pieces, as pairs (file, NAME) in order, and the bits of all that each one names."""
+    """A book's pieces, as pairs (file, NAME), and which of them name which.
+
+    links has of each one the pieces that it names, turn all of them, each one behind all that it
+    names, but for those that name it as well; ringed has those in rings as keys. The pieces are
+    gone through from each one to those that it names: numbers tells in which order they are come
+    upon, path has those of which it isn't known yet whether they name one that is ahead of them
+    there, lows the least number of such a one.
+    """
 
     def __init__(self, book):
         self.pairs = [(file, name) for file, name, _ in book.pieces()]
-        numbers = {pair: at for at, pair in enumerate(self.pairs)}
-        bits = []
-        for file, _, row in book.pieces():
-            told = 0
-            for other in straight(book, file, row):
-                told |= 1 << numbers[other]
-            bits.append(told)
-        self.bits = reached(bits)
+        self.links = {(file, name): straight(book, file, row) for file, name, row in book.pieces()}
+        self.numbers = {}
+        self.lows = {}
+        self.path = []
+        self.turn = []
+        self.ringed = {}
+        for pair in self.pairs:
+            if pair not in self.numbers:
+                self.visit(pair)
+
+    def visit(self, pair):
+        """Goes to a piece that wasn't come upon, and on from it."""
+        number = len(self.numbers)
+        low = number
+        self.numbers[pair] = number
+        self.path.append(pair)
+        for other in self.links[pair]:
+            if other not in self.numbers:
+                self.visit(other)
+            low = min(low, self.lows.get(other, self.numbers[other]))
+        self.lows[pair] = low
+        if low == number:
+            self.leave(pair)
+
+    def leave(self, pair):
+        """Takes the piece and all behind it off the path: these name one another, and no other on it."""
+        at = self.path.index(pair)
+        group = self.path[at:]
+        del self.path[at:]
+        self.turn.extend(group)
+        for other in group:
+            # Whoever names it later isn't to take it for one on the path.
+            self.lows[other] = len(self.pairs)
+            if len(group) > 1 or other in self.links[other]:
+                self.ringed[other] = True
 
     def in_rings(self):
         """The list of the pieces that name themselves, in order."""
-        return [pair for at, pair in enumerate(self.pairs) if self.bits[at] >> at & 1]
-
-    def in_turn(self):
-        """The list of all pieces, each one behind all that it names and that are in no ring."""
-        # It names, by way of such a one, all that this names, and this one besides.
-        many = {pair: f"{self.bits[at]:b}".count("1") for at, pair in enumerate(self.pairs)}
-        return sorted(self.pairs, key=lambda piece: many[piece])
+        return [pair for pair in self.pairs if pair in self.ringed]

@@ -22,10 +22,10 @@ class Study:
         self.looks = {}
         self.reckoned = 0
         ties = Ties(self.book)
-        self.ringed = {pair: True for pair in ties.in_rings()}
+        self.ringed = ties.ringed
         for file, name in self.ringed:
             self.tell(file, name, None)
-        for file, name in ties.in_turn():
+        for file, name in ties.turn:
             if (file, name) not in self.ringed:
                 self.look_at(file, self.book.made[file][name], older)
                 self.tell(file, name, self.looks[file, self.book.made[file][name]].parts[0][1])
@@ -44,7 +44,8 @@ class Study:
         row = self.book.rows[file][number]
         if row.part is None or (file, number) in self.looks:
             return
-        behind = {at: self.stands_behind(file, number, row.text(at)) for at in row.named}
+        meanings = self.book.meanings[file][number]
+        behind = {at: self.stands_behind(row, meaning) for at, meaning in zip(row.named, meanings)}
         was = self.book.kept[file][number]
         if was is not None and older.looks[file, was].behind == behind:
             self.looks[file, number] = older.looks[file, was]
@@ -52,12 +53,8 @@ class Study:
             self.looks[file, number] = Look(row, behind)
             self.reckoned += 1
 
-    def stands_behind(self, file, number, name):
-        """What stands behind the NAME in that row's part."""
-        there = self.book.stands_for(file, number, name)
-        if there is None:
+    def stands_behind(self, row, meaning):
+        """What stands behind a NAME in that row's part that has the meaning."""
+        if meaning is None:
             return None
-        if there[0] == "piece":
-            return self.told[there[1:]]
-        row = self.book.rows[file][number]
-        return ("param", None, row.params[row.param_at(name)][1])
+        return self.told[meaning] if isinstance(meaning, tuple) else ("param", None, row.params[meaning][1])

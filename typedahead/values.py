@@ -13,7 +13,7 @@ MOST_PARTS = 200
 def values(house):
     """The list of (file, NAME, value) of all let pieces, in order."""
     book = Book(house)
-    return values_in(book, {pair: True for pair in Ties(book).in_rings()})
+    return values_in(book, Ties(book).ringed)
 
 
 def values_in(book, ringed):
