@@ -162,6 +162,13 @@ class TestBadLines(unittest.TestCase):
             self.bad(FILES + "\n" + order, 9)
             self.bad(FILES + "\nfaults\n" + order + "\nwork", 10)
 
+    def test_what_is_no_sign(self):
+        for other in ("\t", chr(37), "\r", "\x7f", "\xe9"):
+            self.bad(FILES + "\nfaults\nput 0 aa 0 0 |x" + other, 10)
+            # Ahead of begin a row of that makes its file's text none, and so the files no house.
+            self.bad("file aa\n|x" + other + "\nbegin\nfaults", 4)
+        self.assertEqual(run(FILES + "\nput 0 cc 0 0 |" + SIGNS[:60]), ["1"])
+
     def test_numbers(self):
         for number in ("0", "1", "10", "9999", "1000"):
             self.assertEqual(len(run(FILES + "\nuses aa " + number + " 0\nput 0 aa 0 " + number + " |")), 2)

@@ -7,7 +7,7 @@ from test_faults import house
 from typedahead import helper as helper_file
 from typedahead.edits import done
 from typedahead.errors import (
-    BadHouse, BadName, Clash, NoEdit, NoFile, NoMake, NoMend, NoName, NoPiece, TooLong,
+    BadHouse, BadName, Clash, NoEdit, NoFile, NoMake, NoMend, NoName, NoPiece, Tangled, TooLong,
 )
 from typedahead.faults import faults
 from typedahead.helper import Helper
@@ -301,6 +301,35 @@ class TestAsks(unittest.TestCase):
             same(self, deed(one), deed(two))
             same(self, state(one), state(two))
         same(self, state(first), ahead)
+
+    def test_twin_numbers_marks_and_leaves_pairs_out_as_it_would(self):
+        first = Helper(house("let a = 1"))
+        for editor, edit in ((0, (8, 0, "abc")), (1, (9, 1, ""))):
+            first.edit(editor, "aa", edit)
+        first.undo(1)
+        first.mark(0, "aa", 0)
+        first.mark(1, "aa", 0)
+        first.drop(1)
+        first.ask(0, "kinds")
+        first.answer()
+        other = first.twin()
+        # Makes 2 and 3 are a pair: without it what was put couldn't be taken back.
+        for each in (other, first):
+            same(self, (each.mark(0, "aa", 2), each.ask(1, "faults"), each.undo(0)), (2, 1, 4))
+            same(self, each.text("aa"), "let a = 1")
+        same(self, state(other), state(first))
+
+    def test_what_one_twin_takes_back_the_other_one_did_not(self):
+        first = Helper(house("let a = 1"))
+        for editor, edit in ((0, (8, 0, "abc")), (1, (9, 1, ""))):
+            first.edit(editor, "aa", edit)
+        other = first.twin()
+        same(self, (other.undo(1), other.undo(0), other.text("aa")), (3, 4, "let a = 1"))
+        # Here make 3 is a deed by itself, and so no pair with make 2.
+        same(self, first.edit(1, "aa", (0, 0, "\n")), 3)
+        with self.assertRaises(Tangled) as told:
+            first.undo(0)
+        same(self, told.exception.number, 2)
 
 
 if __name__ == "__main__":

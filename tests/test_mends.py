@@ -34,6 +34,9 @@ class TestMends(unittest.TestCase):
         self.told("x y", "start", [(0, 3, "")])
         self.told("let a = 1\n  x y\nlet b = a", "start", [(10, 5, "")])
         self.told("let a = 1\n;", "start", [(10, 1, "")])
+        # Its stretch is the whole row: not the first token alone goes, nor what stands behind it.
+        self.told("x let a = 1", "start", [(0, 11, "")])
+        self.told("let b = 1\n  x take bb ", "start", [(10, 12, "")])
 
     def test_name(self):
         self.told("take", "name", [(0, 4, "")])

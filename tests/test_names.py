@@ -215,6 +215,12 @@ class TestTarget(unittest.TestCase):
         self.told(house("take bb\ntake aa\ntake zz\ntake cc\ntake bb bb\n take cc = cc", "", ""), [
             [("file", "bb")], [None], [None], [("file", "cc")], [("file", "bb"), None], [("file", "cc"), None]])
 
+    def test_only_take_rows_take(self):
+        for row in ("let bb = 1", "def bb(n num) = n", "let = bb", "x bb", "let a = bb", "tak bb", "take = bb"):
+            where = house(row + "\nlet c = x", "let x = 1")
+            same(self, target(where, ("aa", 1, 8)), None)
+        same(self, target(house("take bb = 1\nlet c = x", "let x = 1"), ("aa", 1, 8)), ("piece", "bb", "x"))
+
     def test_file_called_as_a_piece(self):
         self.told(house("take bb\nlet bb = bb + aa", "let aa = 1"), [
             [("file", "bb")], [("piece", "aa", "bb"), ("piece", "aa", "bb"), ("piece", "bb", "aa")]])

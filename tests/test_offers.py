@@ -102,6 +102,7 @@ class TestOffers(unittest.TestCase):
     def test_hole_ahead_of_which_the_sign_is_wanting(self):
         # The word would be what the row makes, or stand where the = is wanting still.
         self.told("let^", ["x"], "take bb", "let x = 1")
+        self.told("let^", [], "take bb", "def x(n num) = n")
         self.told("let it^", [], "let a = 1")
 
     def test_rows_that_make_nothing(self):

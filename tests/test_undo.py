@@ -368,6 +368,21 @@ class TestSeveralFiles(Case):
         self.helper.undo(0)
         same(self, self.helper.house(), Helper(house("take bb\nlet a = b", "let b = 1\nlet c = b", "take bb\nlet d = b + b")).house())
 
+    def test_files_that_the_deed_did_not_change(self):
+        # Nothing is taken back there: so nothing stands in the way, wherever the other one cuts.
+        for cut in ((0, 20, ""), (16, 4, ""), (17, 2, ""), (18, 1, "")):
+            self.begin()
+            self.helper.edit(0, "bb", (8, 1, "2"))
+            self.helper.edit(1, "aa", (17, 0, "xyz"))
+            self.helper.edit(1, "aa", cut)
+            here = self.helper.text("aa")
+            same(self, self.helper.undo(0), 4)
+            self.text(here)
+            self.text("let b = 1\nlet c = b", "bb")
+            same(self, self.helper.redo(0), 5)
+            self.text(here)
+            self.text("let b = 2\nlet c = b", "bb")
+
     def test_too_long(self):
         self.helper = Helper(house("x" * 60 + "\nlet b = 1"))
         self.edits((0, 30, 10, ""), (1, 0, 0, "y" * 10))

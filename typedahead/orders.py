@@ -2,7 +2,7 @@
 
 from typedahead.errors import BadLine
 from typedahead.names import is_house
-from typedahead.texts import rows_of, text_of
+from typedahead.texts import is_sign, rows_of, text_of
 from typedahead.tokens import is_figure
 from typedahead.words import is_name
 
@@ -77,7 +77,9 @@ def thing_of(sort, word):
         return int(word) if word in ("0", "1") else None
     if sort == "number":
         return int(word) if is_plain(word) else None
-    return word if sort == "signs" or is_name(word) else None
+    if sort == "signs":
+        return word if all([is_sign(sign) for sign in word]) else None
+    return word if is_name(word) else None
 
 
 def is_plain(word):
